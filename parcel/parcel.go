@@ -1,0 +1,46 @@
+// Package parcel: replicas of a card box as bundles of bytes: see DOC.md.
+package parcel
+
+import (
+	"parcel/api"
+	"parcel/bundles"
+	"parcel/sound"
+)
+
+// Check tells whether a replica is sound (P3).
+func Check(r api.Replica) api.Errno {
+	return sound.Check(r)
+}
+
+// Export makes a whole bundle of a replica (P5).
+func Export(r api.Replica) (string, api.Errno) {
+	fault := sound.Check(r)
+	if fault != api.OK {
+		return "", fault
+	}
+	return bundles.Bundle(api.Link{State: r}), api.OK
+}
+
+// Read tells what a bundle holds; with an error, the place (P6).
+func Read(b string) (api.Link, api.Errno, int) { return api.Link{}, api.OK, 0 }
+
+// Restore makes a replica of a whole bundle; with an error, the place (P7).
+func Restore(b string) (api.Replica, api.Errno, int) { return api.Replica{}, api.OK, 0 }
+
+// Salvage finds all records that stand in some bytes (P8).
+func Salvage(b string) []api.Found { return nil }
+
+// Split cuts bytes into volumes (P9).
+func Split(b string, size int) ([]string, api.Errno) { return nil, api.OK }
+
+// Join makes the bytes of volumes; with an error, which volume (P10).
+func Join(l []string) (string, api.Errno, int) { return "", api.OK, 0 }
+
+// Merge makes of two replicas the one that knows what both know (P11).
+func Merge(a api.Replica, b api.Replica) (api.Replica, api.Errno) { return api.Replica{}, api.OK }
+
+// Replay makes the replica of a chain of bundles; with an error, which link (P12).
+func Replay(l []string) (api.Replica, api.Errno, int) { return api.Replica{}, api.OK, 0 }
+
+// Extend makes a chain's next bundle, of what is new in a replica; with an error, which link (P13).
+func Extend(l []string, r api.Replica) (string, api.Errno, int) { return "", api.OK, 0 }
