@@ -47,14 +47,25 @@ func turned(s string, polynomial uint32) string {
 func sumOf(s string) string  { return turned(s, crc32.IEEE) }
 func sealOf(s string) string { return turned(s, crc32.Castagnoli) }
 
+// frameOf is the frame of a record, made without the program.
+func frameOf(record string) string {
+	body := string([]byte{byte(len(record))}) + record
+	return "\xf5\x5f" + body + sumOf(body)
+}
+
+// closed puts the magic ahead of some pieces, and the seal behind, whatever they are.
+func closed(pieces ...string) string {
+	s := "PRC1" + strings.Join(pieces, "")
+	return s + sealOf(s)
+}
+
 // bundleOf is the bundle of some records, made without the program.
 func bundleOf(list ...string) string {
-	s := "PRC1"
+	frames := []string{}
 	for _, record := range list {
-		body := string([]byte{byte(len(record))}) + record
-		s += "\xf5\x5f" + body + sumOf(body)
+		frames = append(frames, frameOf(record))
 	}
-	return s + sealOf(s)
+	return closed(frames...)
 }
 
 // recordsOf are the records of a sound replica's whole bundle, made without the program.

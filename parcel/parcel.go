@@ -22,13 +22,30 @@ func Export(r api.Replica) (string, api.Errno) {
 }
 
 // Read tells what a bundle holds; with an error, the place (P6).
-func Read(b string) (api.Link, api.Errno, int) { return api.Link{}, api.OK, 0 }
+func Read(b string) (api.Link, api.Errno, int) {
+	return bundles.Read(b)
+}
 
 // Restore makes a replica of a whole bundle; with an error, the place (P7).
-func Restore(b string) (api.Replica, api.Errno, int) { return api.Replica{}, api.OK, 0 }
+func Restore(b string) (api.Replica, api.Errno, int) {
+	link, fault, place := bundles.Read(b)
+	if fault != api.OK {
+		return api.Replica{}, fault, place
+	}
+	if link.Seq != 0 {
+		return api.Replica{}, api.ErrDelta, 0
+	}
+	fault = sound.Check(link.State)
+	if fault != api.OK {
+		return api.Replica{}, fault, 0
+	}
+	return link.State, api.OK, 0
+}
 
 // Salvage finds all records that stand in some bytes (P8).
-func Salvage(b string) []api.Found { return nil }
+func Salvage(b string) []api.Found {
+	return bundles.Salvage(b)
+}
 
 // Split cuts bytes into volumes (P9).
 func Split(b string, size int) ([]string, api.Errno) { return nil, api.OK }
