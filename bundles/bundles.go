@@ -20,7 +20,7 @@ func Bundle(l api.Link) string {
 		body = body + frame
 	}
 	seal := sums.Seal(body)
-	end := records.FourBytes(seal)
+	end := sums.FourBytes(seal)
 	return body + end
 }
 

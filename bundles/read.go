@@ -39,7 +39,7 @@ func sealed(b string) bool {
 		return false
 	}
 	seal := sums.Seal(b[:end])
-	return b[end:] == records.FourBytes(seal)
+	return b[end:] == sums.FourBytes(seal)
 }
 
 // framesOf is what the frames behind the magic say, and the first place behind

@@ -35,7 +35,7 @@ func TestReadOfWholeBundleHasNoBase(t *testing.T) {
 // closed puts the magic ahead of some bytes, and the seal behind.
 func closed(inner string) string {
 	s := magic + inner
-	return s + records.FourBytes(sums.Seal(s))
+	return s + sums.FourBytes(sums.Seal(s))
 }
 
 func TestReadKeepsFramesOutOfTheSeal(t *testing.T) {

@@ -80,3 +80,66 @@ func TestAnswersHangOnArgumentsAlone(t *testing.T) {
 		}
 	}
 }
+
+// Whoever writes into a list of volumes changes no other one, sooner or later (P2).
+func TestVolumesShareNoRoom(t *testing.T) {
+	for _, b := range []string{"", "a", mustExport(t, example()), mustExport(t, full())} {
+		first := mustSplit(t, b, 40)
+		second := mustSplit(t, b, 40)
+		kept := slices.Clone(first)
+		scribble(first, "scribble")
+		if !slices.Equal(second, kept) {
+			t.Errorf("P2: an answer of Split shares room")
+		}
+		back, fault, place := Join(second)
+		scribble(second, "scribble")
+		if back != b || fault != api.OK || place != 0 {
+			t.Errorf("P2: Join, behind the caller's writing: %x, %d, %d", back, fault, place)
+		}
+		if later := mustSplit(t, b, 40); !slices.Equal(later, kept) {
+			t.Errorf("P2: Split, behind the caller's writing: %x", later)
+		}
+	}
+}
+
+// Join writes neither into the list nor behind it, and keeps nothing of it (P2).
+func TestJoinLeavesTheList(t *testing.T) {
+	lists := [][]string{nil, {}, mustSplit(t, mustExport(t, example()), 40), volumesOf("c", "a", "b")}
+	for _, c := range noJoins() {
+		lists = append(lists, c.l)
+	}
+	for _, l := range lists {
+		given := append(append(append([]string{}, "ahead"), l...), "spare", "room")
+		before := slices.Clone(given)
+		b, fault, place := Join(given[1 : len(l)+1])
+		if !slices.Equal(given, before) {
+			t.Errorf("P2: %x became %x", before, given)
+		}
+		want, e, at := modelJoin(l)
+		scribble(given, "scribble")
+		if b != want || fault != e || place != at {
+			t.Errorf("P2: Join(%x) = %x, %d, %d, behind the caller's writing", l, b, fault, place)
+		}
+	}
+}
+
+// Answers of Split and Join hang on their arguments alone (P2).
+func TestVolumesHangOnArgumentsAlone(t *testing.T) {
+	bytes := []string{"", "abc", mustExport(t, example()), mustExport(t, full())}
+	lists := [][]string{nil, volumesOf(""), volumesOf("a", "b"), volumesOf("c", "d", "e")[1:], volumesOf("f", "g")[:1], {"x"}}
+	for _, b := range bytes {
+		want, _ := modelSplit(b, 41)
+		for _, l := range lists {
+			text, fault, place := modelJoin(l)
+			for range 2 {
+				if back, e, at := Join(l); back != text || e != fault || at != place {
+					t.Errorf("P2: Join(%x) = %x, %d, %d", l, back, e, at)
+				}
+				if list := mustSplit(t, b, 41); !slices.Equal(list, want) {
+					t.Errorf("P2: Split(%x) = %x", b, list)
+				}
+				Split(b, 39)
+			}
+		}
+	}
+}

@@ -68,6 +68,49 @@ func bundleOf(list ...string) string {
 	return closed(frames...)
 }
 
+// turnedBits turns over a bit, and of the 31 behind it those that are set in more.
+func turnedBits(b string, bit int, more uint32) string {
+	turned := []byte(b)
+	for k := 0; k < 32 && bit+k < 8*len(b); k++ {
+		if k == 0 || more>>(k-1)&1 == 1 {
+			turned[(bit+k)/8] ^= 128 >> ((bit + k) % 8)
+		}
+	}
+	return string(turned)
+}
+
+// volumeOf is a volume of some bytes, of a whole with this sum, made without the program.
+func volumeOf(number, count int, whole string, part string) string {
+	s := "VOL1" + string([]byte{byte(number), byte(count)}) + whole + part
+	return s + sumOf(s)
+}
+
+// volumesOf are the volumes of some parts, in their order.
+func volumesOf(parts ...string) []string {
+	list := []string{}
+	whole := sumOf(strings.Join(parts, ""))
+	for i, part := range parts {
+		list = append(list, volumeOf(i, len(parts), whole, part))
+	}
+	return list
+}
+
+// someBytes are of all values.
+func someBytes(random *rand.Rand, many int) string {
+	b := make([]byte, many)
+	random.Read(b)
+	return string(b)
+}
+
+// picked are some strings of a list, by their places.
+func picked(list []string, places ...int) []string {
+	out := []string{}
+	for _, i := range places {
+		out = append(out, list[i])
+	}
+	return out
+}
+
 // recordsOf are the records of a sound replica's whole bundle, made without the program.
 func recordsOf(r api.Replica) []string {
 	list := []string{"\x04\x00"}
@@ -119,9 +162,7 @@ func someReplica(random *rand.Rand) api.Replica {
 }
 
 func someText(random *rand.Rand) string {
-	b := make([]byte, random.Intn(api.MaxField+1))
-	random.Read(b)
-	return string(b)
+	return someBytes(random, random.Intn(api.MaxField+1))
 }
 
 // wildNumber is one that may be, one at an edge, or one far outside.
@@ -143,6 +184,15 @@ func wildReplica(random *rand.Rand) api.Replica {
 		r.Edits = append(r.Edits, api.Edit{Id: wildNumber(random), Text: strings.Repeat("y", random.Intn(300))})
 	}
 	return r
+}
+
+func mustSplit(t *testing.T, b string, size int) []string {
+	t.Helper()
+	list, e := Split(b, size)
+	if e != api.OK {
+		t.Fatalf("P9: Split of %d bytes with size %d: %d", len(b), size, e)
+	}
+	return list
 }
 
 func mustExport(t *testing.T, r api.Replica) string {

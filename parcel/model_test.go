@@ -2,13 +2,14 @@ package parcel
 
 import (
 	"encoding/binary"
+	"slices"
 	"strings"
 
 	"parcel/api"
 )
 
-// The model says what Read and Salvage answer, by the library's numbers and
-// sums, and by the document's words one after the other.
+// The model says what Read, Salvage, Split and Join answer, by the library's
+// numbers and sums, and by the document's words one after the other.
 
 // modelNumbers takes some numbers off the front: each is written again, and
 // must come out as it was.
@@ -150,4 +151,53 @@ func modelLinkOfRecords(list []string) api.Link {
 		found = append(found, f)
 	}
 	return modelLink(found)
+}
+
+// modelSplit has as many volumes as must be, to have room for all.
+func modelSplit(b string, size int) ([]string, api.Errno) {
+	if size < 40 || size > 4000 || len(b) > 6000 {
+		return nil, api.ErrSize
+	}
+	count := 1
+	for count*(size-14) < len(b) {
+		count++
+	}
+	list := []string{}
+	whole := sumOf(b)
+	for i := range count {
+		part := b[i*(size-14) : min((i+1)*(size-14), len(b))]
+		list = append(list, volumeOf(i, count, whole, part))
+	}
+	return list, api.OK
+}
+
+func modelJoin(l []string) (string, api.Errno, int) {
+	for i, s := range l {
+		if len(s) < 14 || s[:4] != "VOL1" || int(s[4]) >= int(s[5]) || s[len(s)-4:] != sumOf(s[:len(s)-4]) {
+			return "", api.ErrVolume, i
+		}
+	}
+	for i, s := range l {
+		if s[5:10] != l[0][5:10] {
+			return "", api.ErrMixed, i
+		}
+	}
+	for i, s := range l {
+		if slices.ContainsFunc(l[:i], func(ahead string) bool { return ahead[4] == s[4] }) {
+			return "", api.ErrTwice, i
+		}
+	}
+	if len(l) == 0 || len(l) != int(l[0][5]) {
+		return "", api.ErrMissing, 0
+	}
+	order := slices.Clone(l)
+	slices.SortFunc(order, func(a, b string) int { return int(a[4]) - int(b[4]) })
+	b := ""
+	for _, s := range order {
+		b += s[10 : len(s)-4]
+	}
+	if sumOf(b) != l[0][6:10] {
+		return "", api.ErrSum, 0
+	}
+	return b, api.OK, 0
 }

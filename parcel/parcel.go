@@ -5,6 +5,7 @@ import (
 	"parcel/api"
 	"parcel/bundles"
 	"parcel/sound"
+	"parcel/volumes"
 )
 
 // Check tells whether a replica is sound (P3).
@@ -48,10 +49,14 @@ func Salvage(b string) []api.Found {
 }
 
 // Split cuts bytes into volumes (P9).
-func Split(b string, size int) ([]string, api.Errno) { return nil, api.OK }
+func Split(b string, size int) ([]string, api.Errno) {
+	return volumes.Split(b, size)
+}
 
 // Join makes the bytes of volumes; with an error, which volume (P10).
-func Join(l []string) (string, api.Errno, int) { return "", api.OK, 0 }
+func Join(l []string) (string, api.Errno, int) {
+	return volumes.Join(l)
+}
 
 // Merge makes of two replicas the one that knows what both know (P11).
 func Merge(a api.Replica, b api.Replica) (api.Replica, api.Errno) { return api.Replica{}, api.OK }

@@ -121,13 +121,7 @@ func TestReadRefusesTurnedBits(t *testing.T) {
 	random := rand.New(rand.NewSource(5))
 	for bit := 0; bit < 8*len(b); bit++ {
 		for _, more := range []uint32{0, 1, 1 << 30, random.Uint32() >> 1, random.Uint32() >> 20} {
-			turned := []byte(b)
-			for k := 0; k < 32 && bit+k < 8*len(b); k++ {
-				if k == 0 || more>>(k-1)&1 == 1 {
-					turned[(bit+k)/8] ^= 128 >> ((bit + k) % 8)
-				}
-			}
-			l, e, at := Read(string(turned))
+			l, e, at := Read(turnedBits(b, bit, more))
 			want := api.ErrSum
 			if bit < 32 {
 				want = api.ErrMagic

@@ -1,5 +1,7 @@
 package records
 
+import "parcel/sums"
+
 // cursor takes what a record has off its front. Once something is not there it
 // has failed for good, so that one question behind all is enough.
 type cursor struct {
@@ -22,7 +24,7 @@ func (c *cursor) fourBytes() int {
 		c.failed = true
 		return 0
 	}
-	n := fromFourBytes(c.left[:4])
+	n := sums.FromFourBytes(c.left[:4])
 	c.left = c.left[4:]
 	return n
 }

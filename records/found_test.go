@@ -48,14 +48,6 @@ func TestNumbersThereAndBack(t *testing.T) {
 	}
 }
 
-func TestFourBytesThereAndBack(t *testing.T) {
-	for _, n := range []int{0, 1, 255, 256, 0x01020304, 0x7fffffff, 0x80000000, 0xfffffffe, 4294967295} {
-		if m := fromFourBytes(FourBytes(n)); m != n {
-			t.Errorf("four bytes of %d: back %d", n, m)
-		}
-	}
-}
-
 const greatest = "\xff\xff\xff\xff\xff\xff\xff\xff\x7f"
 
 func TestFoundInRecords(t *testing.T) {

@@ -14,7 +14,7 @@ func Frame(record string) string {
 	length := oneByte(len(record))
 	body := length + record
 	sum := sums.Sum(body)
-	end := FourBytes(sum)
+	end := sums.FourBytes(sum)
 	return mark + body + end
 }
 
@@ -39,7 +39,7 @@ func FrameAt(b string, at int) (api.Found, int) {
 		return api.Found{}, 0
 	}
 	sum := sums.Sum(b[body:end])
-	if fromFourBytes(b[end:end+4]) != sum {
+	if sums.FromFourBytes(b[end:end+4]) != sum {
 		return api.Found{}, 0
 	}
 	found.At = at

@@ -33,20 +33,6 @@ func firstNumber(s string) (int, int) {
 	return 0, 0
 }
 
-// FourBytes is a sum or a seal as bytes, the high one first.
-func FourBytes(n int) string {
-	return string([]byte{byte(n >> 24), byte(n >> 16), byte(n >> 8), byte(n)})
-}
-
-// fromFourBytes is the number of which s is FourBytes.
-func fromFourBytes(s string) int {
-	n := 0
-	for i := 0; i < len(s); i++ {
-		n = n<<8 + int(s[i])
-	}
-	return n
-}
-
 // oneByte goes by way of a list: string(n) would be a letter, of up to four bytes.
 func oneByte(n int) string {
 	return string([]byte{byte(n)})

@@ -1,7 +1,10 @@
 // Package records: numbers, records and frames as bytes, of DOC.md.
 package records
 
-import "parcel/api"
+import (
+	"parcel/api"
+	"parcel/sums"
+)
 
 // Head is the record of a head. A whole bundle, with Seq 0, has no Base in it.
 func Head(seq int, base int) string {
@@ -10,7 +13,7 @@ func Head(seq int, base int) string {
 	if seq == 0 {
 		return kind + number
 	}
-	four := FourBytes(base)
+	four := sums.FourBytes(base)
 	return kind + number + four
 }
 

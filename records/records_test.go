@@ -6,6 +6,7 @@ import (
 	"testing"
 
 	"parcel/api"
+	"parcel/sums"
 )
 
 func TestNumbersOfTheDocument(t *testing.T) {
@@ -35,19 +36,6 @@ func TestNumbersByTheLibrary(t *testing.T) {
 	}
 }
 
-func TestFourBytes(t *testing.T) {
-	for _, c := range []struct {
-		n int
-		b string
-	}{
-		{0, "\x00\x00\x00\x00"}, {1, "\x00\x00\x00\x01"}, {0x01020304, "\x01\x02\x03\x04"}, {4294967295, "\xff\xff\xff\xff"},
-	} {
-		if b := FourBytes(c.n); b != c.b {
-			t.Errorf("four bytes of %d: %x, want %x", c.n, b, c.b)
-		}
-	}
-}
-
 func TestRecords(t *testing.T) {
 	for _, c := range []struct{ name, got, want string }{
 		{"whole head", Head(0, 0), "\x04\x00"},
@@ -71,8 +59,8 @@ func TestRecords(t *testing.T) {
 func TestFrame(t *testing.T) {
 	for _, c := range []struct{ record, frame string }{
 		{"\x04\x00", "\xf5\x5f\x02\x04\x00\x0e\x0e\xfa\x58"},
-		{"12345678", "\xf5\x5f\x0812345678" + FourBytes(slowSum("\x0812345678"))},
-		{strings.Repeat("x", 255), "\xf5\x5f\xff" + strings.Repeat("x", 255) + FourBytes(slowSum("\xff"+strings.Repeat("x", 255)))},
+		{"12345678", "\xf5\x5f\x0812345678" + sums.FourBytes(slowSum("\x0812345678"))},
+		{strings.Repeat("x", 255), "\xf5\x5f\xff" + strings.Repeat("x", 255) + sums.FourBytes(slowSum("\xff"+strings.Repeat("x", 255)))},
 	} {
 		if b := Frame(c.record); b != c.frame {
 			t.Errorf("frame of %x: %x, want %x", c.record, b, c.frame)

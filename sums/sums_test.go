@@ -75,3 +75,24 @@ func TestSumAndSealByOtherWays(t *testing.T) {
 		}
 	}
 }
+
+func TestFourBytes(t *testing.T) {
+	for _, c := range []struct {
+		n int
+		b string
+	}{
+		{0, "\x00\x00\x00\x00"}, {1, "\x00\x00\x00\x01"}, {0x01020304, "\x01\x02\x03\x04"}, {4294967295, "\xff\xff\xff\xff"},
+	} {
+		if b := FourBytes(c.n); b != c.b {
+			t.Errorf("four bytes of %d: %x, want %x", c.n, b, c.b)
+		}
+	}
+}
+
+func TestFourBytesThereAndBack(t *testing.T) {
+	for _, n := range []int{0, 1, 255, 256, 0x01020304, 0x7fffffff, 0x80000000, 0xfffffffe, 4294967295} {
+		if m := FromFourBytes(FourBytes(n)); m != n {
+			t.Errorf("four bytes of %d: back %d", n, m)
+		}
+	}
+}
