@@ -42,6 +42,16 @@ func sealed(b string) bool {
 	return b[end:] == sums.FourBytes(seal)
 }
 
+// SealOf is the seal with which a bundle ends, as a number; 0, if the bytes are
+// too few to have one.
+func SealOf(b string) int {
+	end := len(b) - sealLength
+	if end < 0 {
+		return 0
+	}
+	return sums.FromFourBytes(b[end:])
+}
+
 // framesOf is what the frames behind the magic say, and the first place behind
 // them at which no frame stands.
 func framesOf(body string) ([]api.Found, int) {

@@ -112,3 +112,17 @@ func TestSalvageOfBundle(t *testing.T) {
 		t.Errorf("P8: without magic and seal: %+v", list)
 	}
 }
+
+func TestSealOf(t *testing.T) {
+	for _, c := range []struct {
+		b    string
+		seal int
+	}{
+		{Bundle(api.Link{}), 0x4e1e194a}, {Bundle(api.Link{State: state()}), 0x25e103e3},
+		{"PRC1\xff\xff\xff\xff", 4294967295}, {"\x00\x00\x00\x01", 1}, {"\x80\x00\x00\x00", 2147483648}, {"", 0}, {"abc", 0},
+	} {
+		if seal := SealOf(c.b); seal != c.seal {
+			t.Errorf("P12: the seal of %x: %x, want %x", c.b, seal, c.seal)
+		}
+	}
+}

@@ -1,8 +1,10 @@
 package parcel
 
 import (
+	"math/rand"
 	"reflect"
 	"slices"
+	"strings"
 	"testing"
 
 	"parcel/api"
@@ -139,6 +141,122 @@ func TestVolumesHangOnArgumentsAlone(t *testing.T) {
 					t.Errorf("P2: Split(%x) = %x", b, list)
 				}
 				Split(b, 39)
+			}
+		}
+	}
+}
+
+// Merge, Replay and Extend write neither into what is handed in nor behind it (P2).
+func TestMergeAndChainsLeaveWhatIsHandedIn(t *testing.T) {
+	random := rand.New(rand.NewSource(30))
+	list := []api.Replica{{}, example(), newer(), third(), full(), wildReplica(random), counted(1, 1, 40)}
+	for k := 0; k < 20; k++ {
+		list = append(list, closeReplica(random), someReplica(random))
+	}
+	chain := following(t, example(), newer(), newer())
+	for _, r := range list {
+		given, before := roomy(r), whole(roomy(r))
+		for _, other := range list {
+			second, unchanged := roomy(other), whole(roomy(other))
+			Merge(given, second)
+			Merge(second, given)
+			if !reflect.DeepEqual(whole(given), before) || !reflect.DeepEqual(whole(second), unchanged) {
+				t.Fatalf("P2: Merge made %+v of %+v", whole(given), before)
+			}
+		}
+		Merge(given, given)
+		for _, l := range [][]string{nil, {"x"}, picked(chain, 2, 0, 1), picked(chain, 1, 0), picked(chain, 1, 1), picked(chain, 0, 2)} {
+			bundles := append(append([]string{"ahead"}, l...), "spare", "room")
+			kept := slices.Clone(bundles)
+			Replay(bundles[1 : len(l)+1])
+			Extend(bundles[1:len(l)+1], given)
+			if !slices.Equal(bundles, kept) || !reflect.DeepEqual(whole(given), before) {
+				t.Fatalf("P2: Extend made %x, %+v of %x, %+v", bundles, whole(given), kept, before)
+			}
+		}
+	}
+}
+
+// An answer stays when what was handed in is changed, and when another answer is (P2).
+func TestMergeAndChainsShareNoRoom(t *testing.T) {
+	for _, r := range []api.Replica{{}, example(), newer(), full(), edited("ab"), ticked(1, 2), counted(1, 1, 40)} {
+		for _, other := range []api.Replica{{}, r} {
+			a, b := roomy(r), roomy(other)
+			first, _ := Merge(a, b)
+			second, _ := Merge(b, a)
+			third, _ := Merge(first, second)
+			scribbleReplica(a)
+			scribbleReplica(b)
+			if !same(first, r) || !same(second, r) {
+				t.Errorf("P2: Merge keeps what it was given: %+v, %+v", first, second)
+			}
+			scribbleReplica(first)
+			if !same(second, r) || !same(third, r) {
+				t.Errorf("P2: an answer of Merge shares room: %+v, %+v", second, third)
+			}
+			scribbleReplica(second)
+			if !same(third, r) {
+				t.Errorf("P2: an answer of Merge shares room with what was merged: %+v", third)
+			}
+		}
+		for _, l := range [][]string{following(t, r), following(t, api.Replica{}, r), following(t, r, r, r)} {
+			given := slices.Clone(l)
+			first, _, _ := Replay(given)
+			second, _, _ := Replay(given)
+			link, _, _ := Read(given[len(given)-1])
+			kept := copyOf(link.State)
+			next := roomy(r)
+			s := mustExtend(t, given, next)
+			again := strings.Clone(s)
+			scribble(given, "scribble")
+			scribbleReplica(next)
+			scribbleReplica(first)
+			if !same(second, r) || !same(link.State, kept) || s != again {
+				t.Errorf("P2: an answer of Replay shares room: %+v, %+v, %x", second, link.State, s)
+			}
+			if later, e, at := Replay(l); e != api.OK || at != 0 || !same(later, r) {
+				t.Errorf("P2: Replay, behind the caller's writing: %+v, %d, %d", later, e, at)
+			}
+		}
+	}
+}
+
+// The lists of one answer share no room with each other, nor with their spare room (P2).
+func TestAnswersOfMergeAndReplayStandApart(t *testing.T) {
+	merged, _ := Merge(example(), newer())
+	replayed, _, _ := Replay(following(t, example(), newer()))
+	for _, r := range []api.Replica{merged, replayed} {
+		scribble(r.Clocks, api.Clock{Site: 77, Count: 77})
+		if !slices.Equal(r.Cards, newer().Cards) || !slices.Equal(r.Edits, newer().Edits) {
+			t.Errorf("P2: cards and edits, behind writing into the clocks: %+v", r)
+		}
+		scribble(r.Cards, api.Card{Id: 77, Text: "scribble"})
+		if !slices.Equal(r.Edits, newer().Edits) {
+			t.Errorf("P2: edits, behind writing into the cards: %+v", r)
+		}
+	}
+}
+
+// Answers of Merge, Replay and Extend hang on their arguments alone (P2).
+func TestMergeAndChainsHangOnArgumentsAlone(t *testing.T) {
+	chain := following(t, example(), newer(), newer())
+	lists := [][]string{nil, {"x"}, chain, picked(chain, 2, 1, 0), chain[:1], chain[1:], picked(chain, 0, 0), following(t, full())}
+	list := []api.Replica{{}, example(), newer(), third(), full(), ticked(1, 0)}
+	for _, l := range lists {
+		replayed, wrong, number := modelReplay(l)
+		for _, r := range list {
+			extended, fault, place := modelExtend(l, r)
+			for _, other := range list {
+				merged, clash := modelMerge(r, other)
+				if got, e := Merge(r, other); e != clash || !same(got, merged) {
+					t.Errorf("P2: Merge(%+v, %+v) = %+v, %d", r, other, got, e)
+				}
+				if got, e, at := Replay(l); e != wrong || at != number || !same(got, replayed) {
+					t.Errorf("P2: Replay(%x) = %+v, %d, %d", l, got, e, at)
+				}
+				if s, e, at := Extend(l, r); s != extended || e != fault || at != place {
+					t.Errorf("P2: Extend(%x, %+v) = %x, %d, %d", l, r, s, e, at)
+				}
 			}
 		}
 	}

@@ -203,3 +203,12 @@ func mustExport(t *testing.T, r api.Replica) string {
 	}
 	return b
 }
+
+func mustExtend(t *testing.T, l []string, r api.Replica) string {
+	t.Helper()
+	b, e, at := Extend(l, r)
+	if e != api.OK || at != 0 {
+		t.Fatalf("P13: Extend(%x, %+v): %d, %d", l, r, e, at)
+	}
+	return b
+}

@@ -4,6 +4,8 @@ package parcel
 import (
 	"parcel/api"
 	"parcel/bundles"
+	"parcel/chains"
+	"parcel/replicas"
 	"parcel/sound"
 	"parcel/volumes"
 )
@@ -59,10 +61,31 @@ func Join(l []string) (string, api.Errno, int) {
 }
 
 // Merge makes of two replicas the one that knows what both know (P11).
-func Merge(a api.Replica, b api.Replica) (api.Replica, api.Errno) { return api.Replica{}, api.OK }
+func Merge(a api.Replica, b api.Replica) (api.Replica, api.Errno) {
+	fault := sound.Check(a)
+	if fault != api.OK {
+		return api.Replica{}, fault
+	}
+	fault = sound.Check(b)
+	if fault != api.OK {
+		return api.Replica{}, fault
+	}
+	if replicas.Clashing(a.Cards, b.Cards) {
+		return api.Replica{}, api.ErrClash
+	}
+	merged := replicas.Merged(a, b)
+	if sound.TooMany(merged) {
+		return api.Replica{}, api.ErrMany
+	}
+	return merged, api.OK
+}
 
 // Replay makes the replica of a chain of bundles; with an error, which link (P12).
-func Replay(l []string) (api.Replica, api.Errno, int) { return api.Replica{}, api.OK, 0 }
+func Replay(l []string) (api.Replica, api.Errno, int) {
+	return chains.Replay(l)
+}
 
 // Extend makes a chain's next bundle, of what is new in a replica; with an error, which link (P13).
-func Extend(l []string, r api.Replica) (string, api.Errno, int) { return "", api.OK, 0 }
+func Extend(l []string, r api.Replica) (string, api.Errno, int) {
+	return chains.Extend(l, r)
+}

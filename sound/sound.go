@@ -7,7 +7,7 @@ import "parcel/api"
 // Each question is asked only when the ones ahead of it are answered well, and
 // may count on that.
 func Check(r api.Replica) api.Errno {
-	if tooMany(r) {
+	if TooMany(r) {
 		return api.ErrMany
 	}
 	if wrongNumber(r) {
@@ -28,7 +28,8 @@ func Check(r api.Replica) api.Errno {
 	return api.OK
 }
 
-func tooMany(r api.Replica) bool {
+// TooMany tells whether a replica has more of something than it may.
+func TooMany(r api.Replica) bool {
 	return len(r.Clocks) > api.MaxSites || len(r.Cards) > api.MaxCards || len(r.Edits) > api.MaxEdits
 }
 
